@@ -1,0 +1,1 @@
+"""Shoalmates: ships that deepen the water for one another."""
