@@ -1,11 +1,12 @@
 """Steps: how many others lie here as a ship goes over, and who may go at which."""
 
+from shoalmates.water import mark_of, top_of
+
 
 def mark_at(sea, step):
     """Tell the mark of a step: the greatest draught that may go over at it."""
     here, there, draughts = sea
-    others_there = len(draughts) - 1 - step
-    return min(here + step, there + others_there)
+    return mark_of(here, there, len(draughts), step)
 
 
 def goers_at(sea, step):
@@ -18,11 +19,7 @@ def goers_at(sea, step):
 def top_step(sea):
     """Tell the least step whose mark is the greatest."""
     here, there, draughts = sea
-    last = len(draughts) - 1
-    # Step by step the water here rises by one and that there falls by one, so the mark
-    # is greatest where both meet; of two steps alike, rounding down takes the lesser.
-    meeting = (there + last - here) // 2
-    return max(0, min(last, meeting))
+    return top_of(here, there, len(draughts))
 
 
 def window_of(sea, ship):
