@@ -6,7 +6,7 @@ from pathlib import Path
 
 README = Path(__file__).resolve().parent.parent / "README.md"
 BLOCK = re.compile(r"```python\n(.*?)```", re.DOTALL)
-EXAMPLE = re.compile(r"^(?P<ask>\S.*?\))\s+# (?P<told>[^:;]+)", re.ASCII)
+EXAMPLE = re.compile(r"^(?P<ask>\S.*?\))\s+# (?P<told>'[^']*'|[^:;]+)", re.ASCII)
 
 
 def refusal_or_value(ask, names):
@@ -26,6 +26,7 @@ class ReadmeTests(unittest.TestCase):
             for line in block.splitlines():
                 example = EXAMPLE.match(line)
                 if example is None:
+                    self.assertNotIn("#", line)
                     exec(line, names)
                 else:
                     told = refusal_or_value(example["ask"], names)
