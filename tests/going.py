@@ -1,5 +1,6 @@
 """What the document's words say, found the long way: by counting others, and by going."""
 
+import heapq
 from itertools import combinations, product
 
 
@@ -122,3 +123,70 @@ def fleet_lots(fleet):
             for member in lot.members:
                 lots[member] = lot
     return lots
+
+
+def far_by_going(sea, one):
+    """How many crossings lead from one to each standing that it comes to, layer by layer."""
+    far, layer = {one: 0}, [one]
+    while layer:
+        following = []
+        for standing in layer:
+            for ship in may_by_count(sea, standing):
+                reached = gone_over(standing, ship)
+                if reached not in far:
+                    far[reached] = far[standing] + 1
+                    following.append(reached)
+        layer = following
+    return far
+
+
+def price_by_going(sea, one, prices):
+    """The least that each standing comes to, by prices, the nearest gone on from first."""
+    least, waiting = {one: 0}, [(0, one)]
+    while waiting:
+        price, standing = heapq.heappop(waiting)
+        if price > least[standing]:
+            continue
+        for ship in may_by_count(sea, standing):
+            reached, more = gone_over(standing, ship), price + prices[ship]
+            if reached not in least or more < least[reached]:
+                least[reached] = more
+                heapq.heappush(waiting, (more, reached))
+    return least
+
+
+def alike_ones(sea, one, other, prices):
+    """Lists of ships that may be exchanged: alike in draught and price, and in both standings."""
+    alike = {}
+    for ship, draught in enumerate(sea[2]):
+        alike.setdefault((draught, prices[ship], ship in one, ship in other), []).append(ship)
+    return alike
+
+
+def price_by_counts(sea, one, other, prices):
+    """The least price from one to other, by going through how many of those alike lie here."""
+    here, there, draughts = sea
+    alike = alike_ones(sea, one, other, prices)
+    sorts = [(draught, price, len(ships)) for (draught, price, *lies), ships in alike.items()]
+    start = tuple(len(ships) if in_one else 0 for (*kind, in_one, in_other), ships in alike.items())
+    end = tuple(len(ships) if in_other else 0 for (*kind, in_one, in_other), ships in alike.items())
+    least, waiting = {start: 0}, [(0, start)]
+    while waiting:
+        paid, counts = heapq.heappop(waiting)
+        if counts == end:
+            return paid
+        if paid > least[counts]:
+            continue
+        lie_here = sum(counts)
+        for place, (draught, price, many) in enumerate(sorts):
+            for way in (1, -1):
+                if not 0 <= counts[place] + way <= many:
+                    continue
+                others_here = lie_here - (way == -1)
+                if draught > min(here + others_here, there + len(draughts) - 1 - others_here):
+                    continue
+                reached = counts[:place] + (counts[place] + way,) + counts[place + 1:]
+                if reached not in least or paid + price < least[reached]:
+                    least[reached] = paid + price
+                    heapq.heappush(waiting, (paid + price, reached))
+    return None
