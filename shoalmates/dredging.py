@@ -3,6 +3,7 @@
 from shoalmates.reach import comes_to, movers_of
 
 HERE = "here"
+THERE = "there"
 
 
 def deepened(sea, side, more):

@@ -110,11 +110,13 @@ class AsGoneThroughTests(unittest.TestCase):
             many = rnd.randint(1, 4)
             here, there = rnd.randint(0, 4), rnd.randint(0, 9)
             draughts = tuple(rnd.randint(here, here + 6) for _ in range(many))
-            small, great = (here, there, draughts), (here + BIG - 9, there + BIG - 9, tuple(d + BIG - 9 for d in draughts))
+            small = (here, there, draughts)
+            great = (here + BIG - 9, there + BIG - 9, tuple(draught + BIG - 9 for draught in draughts))
             for standing in standings_of(small):
                 for side in SIDES:
                     self.assertEqual(freed_by(great, standing, side), freed_by(small, standing, side))
-                    self.assertEqual(least_dredged(great, standing, (0,), side), least_dredged(small, standing, (0,), side))
+                    self.assertEqual(least_dredged(great, standing, (0,), side),
+                                     least_dredged(small, standing, (0,), side))
 
 
 class OneLessTests(unittest.TestCase):

@@ -40,6 +40,23 @@ def nodes():
             yield name, node
 
 
+def trees():
+    return [(path.stem, ast.parse(path.read_text(encoding="utf-8"))) for path in package_files()]
+
+
+def bound_in(tree, imported=True):
+    """All names that a file binds at module level."""
+    names = []
+    for node in tree.body:
+        if isinstance(node, (ast.FunctionDef, ast.ClassDef)):
+            names.append(node.name)
+        if isinstance(node, ast.Assign):
+            names += [target.id for target in node.targets]
+        if isinstance(node, ast.ImportFrom) and imported:
+            names += [part.name for part in node.names]
+    return names
+
+
 class LanguageTests(unittest.TestCase):
     def test_files_have_plain_names(self):
         for path in package_files():
@@ -88,6 +105,50 @@ class LanguageTests(unittest.TestCase):
                 self.assertFalse(hasattr(builtins, node.arg), (name, node.arg))
             if isinstance(node, ast.FunctionDef) and node.name.startswith("_"):
                 self.assertIn(node.name.strip("_"), METHODS, name)
+
+    def test_lists_not_generators(self):
+        # A class has __eq__ and __len__, so any, all, sorted and the like take lists.
+        for name, node in nodes():
+            self.assertNotIsInstance(node, (ast.GeneratorExp, ast.Yield, ast.YieldFrom), name)
+            if isinstance(node, ast.Attribute):
+                self.assertNotEqual(node.attr, "sort", name)
+
+    def test_no_name_hides_an_import_or_a_function(self):
+        for name, tree in trees():
+            known = bound_in(tree)
+            self.assertEqual(len(known), len(set(known)), name)
+            for node in ast.walk(tree):
+                if isinstance(node, ast.arg):
+                    self.assertNotIn(node.arg, known, name)
+                if isinstance(node, ast.FunctionDef):
+                    stored = [part.id for part in ast.walk(node)
+                              if isinstance(part, ast.Name) and isinstance(part.ctx, ast.Store)]
+                    self.assertFalse(set(stored) & set(known), (name, node.name))
+
+    def test_imports_name_the_file_that_defines_them_and_never_go_round(self):
+        defined = {path.stem: bound_in(ast.parse(path.read_text(encoding="utf-8")), False)
+                   for path in package_files()}
+        needed = {}
+        for name, tree in trees():
+            needed[name] = set()
+            for node in tree.body:
+                if isinstance(node, ast.ImportFrom):
+                    source = node.module.split(".")[1]
+                    needed[name].add(source)
+                    for part in node.names:
+                        self.assertIn(part.name, defined[source], name)
+        while needed:
+            ready = [name for name, sources_of in needed.items() if not sources_of & set(needed)]
+            self.assertTrue(ready, needed)
+            for name in ready:
+                del needed[name]
+
+    def test_no_name_is_a_method_and_an_attribute(self):
+        methods = {part.name for name, node in nodes() if isinstance(node, ast.ClassDef)
+                   for part in node.body if isinstance(part, ast.FunctionDef)}
+        stored = {node.attr for name, node in nodes()
+                  if isinstance(node, ast.Attribute) and isinstance(node.ctx, ast.Store)}
+        self.assertFalse(methods & stored)
 
 
 if __name__ == "__main__":
