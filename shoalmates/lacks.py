@@ -15,29 +15,36 @@ def goers_among(sea, ships, steps):
     return len([ship for ship in ships if draughts[ship] <= mark])
 
 
-def ways_round(one, other):
-    """Tell the list of (from, to, those that come): from one to other, and back."""
+def both_ways(one, other):
+    """Tell the list of triples (from, to, those that come): from one to other, and back."""
     comers = [ship for ship in other if ship not in one]
     leavers = [ship for ship in one if ship not in other]
     return [(one, other, comers), (other, one, leavers)]
 
 
-def lacking_below(sea, one, other, step):
+def lacking_below(sea, ways, step):
     """Tell how many are lacking, at least, up to a step below the window."""
-    return max([step + 1 - len(start) - goers_among(sea, comers, [step])
-                for start, end, comers in ways_round(one, other)])
+    return max([step + 1 - len(start) - goers_among(sea, comers, [step]) for start, end, comers in ways])
 
 
-def lacking_above(sea, one, other, step):
+def lacking_above(sea, ways, step):
     """Tell how many are lacking, at least, down to a step above the window."""
-    return max([len(end) - step - goers_among(sea, comers, [step])
-                for start, end, comers in ways_round(one, other)])
+    return max([len(end) - step - goers_among(sea, comers, [step]) for start, end, comers in ways])
 
 
-def lacking_both(sea, one, other, low, high):
+def lacking_both(sea, ways, low, high):
     """Tell how many are lacking, at least, from a step below the window to one above it."""
     return max([low + 1 - len(start) + len(end) - high - goers_among(sea, comers, [low, high])
-                for start, end, comers in ways_round(one, other)])
+                for start, end, comers in ways])
+
+
+def lacking_by(sea, ways, paper):
+    """Tell the most that a paper of a step, or of two, shows to be lacking; maybe below 0."""
+    if paper[0] == "below":
+        return lacking_below(sea, ways, paper[1])
+    if paper[0] == "above":
+        return lacking_above(sea, ways, paper[1])
+    return lacking_both(sea, ways, paper[1], paper[2])
 
 
 def is_below(window, thing):
@@ -72,15 +79,6 @@ def step_papers(sea, window):
     return papers + [("both", low, high) for low in lows for high in highs]
 
 
-def lacking_by(sea, one, other, paper):
-    """Tell the most that a paper of a step, or of two, shows to be lacking; maybe below 0."""
-    if paper[0] == "below":
-        return lacking_below(sea, one, other, paper[1])
-    if paper[0] == "above":
-        return lacking_above(sea, one, other, paper[1])
-    return lacking_both(sea, one, other, paper[1], paper[2])
-
-
 def lack_of(sea, one, other):
     """Tell the pair of the lack and a paper that no less is lacking, or refuse it with Apart."""
     if not comes_to(sea, one, other):
@@ -89,8 +87,9 @@ def lack_of(sea, one, other):
     shown_by = ("none",)
     if tuple(one) == tuple(other):
         return (lack, shown_by)
+    ways = both_ways(one, other)
     for paper in step_papers(sea, window_between(sea, one, other)):
-        lacking = lacking_by(sea, one, other, paper)
+        lacking = lacking_by(sea, ways, paper)
         if lacking > lack:
             lack = lacking
             shown_by = paper
@@ -105,4 +104,4 @@ def shows_lack(sea, one, other, many, thing):
         return False
     if not is_step_paper(sea, window_between(sea, one, other), thing):
         return False
-    return many <= lacking_by(sea, one, other, thing)
+    return many <= lacking_by(sea, both_ways(one, other), thing)
